@@ -1,0 +1,111 @@
+"""Some rules of ../shared/LANGUAGE.md, held against the package's files. Not all: L18, L19, L24 are for the eye."""
+
+import ast
+import builtins
+import os
+import re
+import unittest
+
+PACKAGE = os.path.join(os.path.dirname(os.path.abspath(__file__)), "..", "rootshares")
+OWN_OF_PYTHON = set("""len range enumerate zip min max sum abs sorted reversed int str bool bytes list tuple dict set
+    frozenset isinstance ord repr any all divmod Exception ValueError TypeError KeyError IndexError LookupError
+    ZeroDivisionError ArithmeticError OverflowError RuntimeError NotImplementedError AttributeError
+    StopIteration""".split())
+UNDERSCORED = {"__init__", "__eq__", "__repr__", "__str__", "__len__"}
+METHODS = set("""append clear copy count endswith extend find get index insert isalnum isalpha isdigit islower isspace
+    isupper items join keys ljust lower lstrip partition pop remove replace reverse rfind rjust rpartition rsplit
+    rstrip setdefault split splitlines startswith strip update upper values zfill bit_length sort add discard""".split())
+NO_WORDS = re.compile(r"\b(type|typing|typing_extensions|enum|Enum|IntEnum|StrEnum|Flag|IntFlag|Generic|Protocol|ABC|"
+                      r"ABCMeta|namedtuple|NamedTuple|TypedDict|TYPE_CHECKING|abstractmethod)\b|"
+                      r"dataclass|overload|contextmanager")
+NO_NODES = (ast.With, ast.Match, ast.Global, ast.Nonlocal, ast.Yield, ast.YieldFrom, ast.Await, ast.AsyncFunctionDef,
+            ast.GeneratorExp, ast.NamedExpr, ast.Div, ast.Import, ast.MatMult)
+
+
+def files():
+    found = {}
+    for name in sorted(os.listdir(PACKAGE)):
+        if name != "__pycache__":
+            with open(os.path.join(PACKAGE, name), encoding="utf-8") as file:
+                found[name] = file.read()
+    return found
+
+
+def nodes(kind):
+    for name, text in files().items():
+        for node in ast.walk(ast.parse(text)):
+            if isinstance(node, kind):
+                yield name, node
+
+
+class Language(unittest.TestCase):
+    def test_files(self):
+        self.assertIn("__init__.py", files())
+        for name, text in files().items():
+            self.assertRegex(name, r"^([a-z][a-z0-9_]*|__init__|__main__)\.py$")
+            self.assertRegex(text, r"^[ -~\n]*$")
+            self.assertIsNone(NO_WORDS.search(text), name)
+
+    def test_sizes(self):
+        for name, text in files().items():
+            lines = text.split("\n")
+            self.assertLessEqual(len(lines), 400, name)
+            self.assertLessEqual(max([len(line) for line in lines]), 120, name)
+        for name, node in nodes(ast.FunctionDef):
+            self.assertLessEqual(node.end_lineno - node.lineno + 1, 40, (name, node.name))
+
+    def test_no_other_forms(self):
+        for name, node in nodes(NO_NODES):
+            self.fail((name, node.lineno, node.__class__.__name__))
+        for name, node in nodes((ast.FunctionDef, ast.ClassDef)):
+            self.assertEqual(node.decorator_list, [], (name, node.name))
+        for name, node in nodes((ast.For, ast.While)):
+            self.assertEqual(node.orelse, [], (name, node.lineno))
+        for name, node in nodes(ast.arguments):
+            self.assertEqual((node.vararg, node.kwarg, node.posonlyargs), (None, None, []), name)
+
+    def test_imports_are_the_packages_own(self):
+        defined = {}
+        for name, text in files().items():
+            defined["rootshares." + name[:-3]] = [
+                one.name if not isinstance(one, ast.Assign) else one.targets[0].id
+                for one in ast.parse(text).body if isinstance(one, (ast.FunctionDef, ast.ClassDef, ast.Assign))]
+        for name, node in nodes(ast.ImportFrom):
+            self.assertEqual(node.level, 0, name)
+            for alias in node.names:
+                self.assertIn(alias.name, defined[node.module], name)
+
+    def test_names(self):
+        for name, node in nodes(ast.Name):
+            self.assertFalse(node.id.startswith("_"), (name, node.id))
+            if node.id in dir(builtins):
+                self.assertIn(node.id, OWN_OF_PYTHON, (name, node.lineno))
+                self.assertIsInstance(node.ctx, ast.Load, (name, node.lineno))
+        for name, node in nodes(ast.arg):
+            self.assertFalse(node.arg in dir(builtins) or node.arg.startswith("_"), (name, node.arg))
+        for name, node in nodes(ast.FunctionDef):
+            self.assertTrue(node.name in UNDERSCORED or not node.name.startswith("_"), (name, node.name))
+
+    def test_methods(self):
+        own = set([node.name for name, node in nodes(ast.FunctionDef)])
+        for name, node in nodes(ast.Call):
+            if isinstance(node.func, ast.Attribute):
+                self.assertIn(node.func.attr, METHODS | own, (name, node.lineno))
+
+    def test_is_stands_beside_none_true_false(self):
+        for name, node in nodes(ast.Compare):
+            for sign, right in zip(node.ops, node.comparators):
+                if isinstance(sign, (ast.Is, ast.IsNot)):
+                    self.assertIsInstance(right, ast.Constant, (name, node.lineno))
+                    self.assertIn(repr(right.value), ["None", "True", "False"], (name, node.lineno))
+
+    def test_errors_are_taken_by_name(self):
+        for name, node in nodes(ast.ExceptHandler):
+            self.assertIsNotNone(node.type, (name, node.lineno))
+            taken = node.type.elts if isinstance(node.type, ast.Tuple) else [node.type]
+            for one in taken:
+                self.assertNotIn(one.id, ["Exception", "TypeError"], (name, node.lineno))
+
+
+if __name__ == "__main__":
+    unittest.main()
