@@ -49,5 +49,4 @@ class TooFew(RootError):
     """There are too few trees; the lot shows why."""
 
     def __init__(self, lot):
-        RootError.__init__(self, "too few ties lead into a lot")
         self.lot = lot
