@@ -28,6 +28,17 @@ def row_to(rows, place):
     return [row for row in rows if row[2] == place][0]
 
 
+def way_along(rows, root, place):
+    """The way from a root to a place along rows, of which one leads to each place on it."""
+    way = []
+    here = place
+    while here != root:
+        name, start, end = row_to(rows, here)
+        way.append(name)
+        here = start
+    return tuple(way[::-1])
+
+
 def is_tree(web, root, thing):
     """Whether a thing is a tree of the web from the root."""
     need_web(web)
@@ -41,14 +52,7 @@ def way_in(web, root, tree, place):
     need_place(web, root)
     need_place(web, place)
     need_tree(web, root, tree)
-    rows = rows_of(web, tree)
-    way = []
-    here = place
-    while here != root:
-        name, start, end = row_to(rows, here)
-        way.append(name)
-        here = start
-    return tuple(way[::-1])
+    return way_along(rows_of(web, tree), root, place)
 
 
 def below(web, root, tree, tie):

@@ -1,6 +1,6 @@
 """Webs of places and one-way ties, and what is told of them."""
 
-from rootshares.errors import NoLot, NoPlace, NoTie, NoWeb
+from rootshares.errors import NoLot, NoNumber, NoPlace, NoTie, NoWeb
 
 LONGEST_NAME = 8
 
@@ -10,6 +10,11 @@ def is_name(thing):
     if not isinstance(thing, str) or not 1 <= len(thing) <= LONGEST_NAME:
         return False
     return all(["a" <= letter <= "z" for letter in thing])
+
+
+def is_whole(thing):
+    """Whether a thing is a whole number; True and False are none."""
+    return isinstance(thing, int) and not isinstance(thing, bool)
 
 
 def is_rising(names):
@@ -64,6 +69,12 @@ def need_web(thing):
         raise NoWeb("this is no web")
 
 
+def need_number(thing, low, high):
+    """Refuse what is no whole number from one to another."""
+    if not is_whole(thing) or not low <= thing <= high:
+        raise NoNumber("this is no number from " + str(low) + " to " + str(high))
+
+
 def need_place(web, thing):
     """Refuse what is no place of the web."""
     if not is_among(thing, web[0]):
@@ -111,17 +122,28 @@ def need_lot(web, thing):
         raise NoLot("this is no lot of the web")
 
 
-def come_to(rows, start):
-    """The places to which tie rows lead from a place, itself first, as they are found."""
+def leads_into(row, lot):
+    """Whether a tie leads to a place of a lot from a place that is not in it."""
+    return row[2] in lot and row[1] not in lot
+
+
+def first_rows(rows, start):
+    """The tie rows by which each place is first come to from a place, the nearest places first."""
     found = [start]
+    taken = []
     done = 0
     while done < len(found):
-        here = found[done]
         for row in rows:
-            if row[1] == here and row[2] not in found:
+            if row[1] == found[done] and row[2] not in found:
                 found.append(row[2])
+                taken.append(row)
         done += 1
-    return found
+    return taken
+
+
+def come_to(rows, start):
+    """The places to which tie rows lead from a place, itself first, as they are found."""
+    return [start] + [row[2] for row in first_rows(rows, start)]
 
 
 def ends(web, tie):
@@ -136,7 +158,7 @@ def leading_in(web, lot):
     """The sorted names of the ties that lead into a lot."""
     need_web(web)
     need_lot(web, lot)
-    return [row[0] for row in web[1] if row[2] in lot and row[1] not in lot]
+    return [row[0] for row in web[1] if leads_into(row, lot)]
 
 
 def without(web, ties):

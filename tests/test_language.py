@@ -86,6 +86,30 @@ class Language(unittest.TestCase):
         for name, node in nodes(ast.FunctionDef):
             self.assertTrue(node.name in UNDERSCORED or not node.name.startswith("_"), (name, node.name))
 
+    def test_each_name_means_one_thing(self):
+        for name, text in files().items():
+            top = ast.parse(text).body
+            bound = [alias.name for node in top if isinstance(node, ast.ImportFrom) for alias in node.names]
+            bound += [node.name for node in top if isinstance(node, (ast.FunctionDef, ast.ClassDef))]
+            bound += [node.targets[0].id for node in top if isinstance(node, ast.Assign)]
+            self.assertEqual(len(bound), len(set(bound)), name)
+            for node in ast.walk(ast.parse(text)):
+                if isinstance(node, ast.FunctionDef):
+                    within = [one.arg for one in ast.walk(node) if isinstance(one, ast.arg)]
+                    within += [one.id for one in ast.walk(node)
+                               if isinstance(one, ast.Name) and isinstance(one.ctx, ast.Store)]
+                    self.assertEqual([one for one in within if one in bound], [], (name, node.name))
+
+    def test_no_file_is_drawn_from_in_a_ring(self):
+        drawn = {"rootshares." + name[:-3]: [] for name in files()}
+        for name, node in nodes(ast.ImportFrom):
+            drawn["rootshares." + name[:-3]].append(node.module)
+        while drawn:
+            free = [name for name in drawn if not [other for other in drawn[name] if other in drawn]]
+            self.assertNotEqual(free, [], sorted(drawn))
+            for name in free:
+                del drawn[name]
+
     def test_methods(self):
         own = set([node.name for name, node in nodes(ast.FunctionDef)])
         for name, node in nodes(ast.Call):

@@ -3,25 +3,8 @@ import unittest
 
 from rootshares.errors import NoPlace, NoTie, NoTree, NoWeb
 from rootshares.trees import below, exchanged, is_tree, way_in
-from things import ALONE, APART, NO_NAMES, ODD, WEB, Prickly, refused, some_webs
+from things import ALONE, APART, NO_NAMES, NO_WEBS, ODD, TALL, WEB, Prickly, refused, some_webs, trees_of, walk_back
 
-NO_WEBS = ODD + [(), ("a",), ("a", "b"), [("a",), ()], ((), ()), (("a", "b"), (("t", "a", "a"),))]
-
-# A chain and a branch: a leads to b and e, b to c, c to d; with more ties that no tree of it has.
-TALL = (
-    ("a", "b", "c", "d", "e"),
-    (
-        ("ab", "a", "b"),
-        ("ac", "a", "c"),
-        ("ae", "a", "e"),
-        ("bc", "b", "c"),
-        ("ca", "c", "a"),
-        ("cd", "c", "d"),
-        ("db", "d", "b"),
-        ("ec", "e", "c"),
-        ("xab", "a", "b"),
-    ),
-)
 TALL_TREE = ("ab", "ae", "bc", "cd")
 
 NO_TREES = ODD + [
@@ -39,28 +22,6 @@ NO_TREES = ODD + [
     ("ab", "ac", 1), ("ab", "ac", Prickly()), (Prickly(), "ac", "bd"), ("ab", "ac", ["bd"]), ("ab", "ac", b"bd"),
     ("ab", "ac", ("bd",)), (("ab", "a", "b"), ("ac", "a", "c"), ("bd", "b", "d")), ("ab", "ac", True),
 ]
-
-
-def walk_back(web, root, ties, place):
-    """The way to a place among ties of which at most one leads to each, or None; found from its far end."""
-    way = []
-    while place != root:
-        rows = [row for row in web[1] if row[0] in ties and row[2] == place]
-        if len(rows) != 1 or len(way) > len(web[0]):
-            return None
-        way.insert(0, rows[0][0])
-        place = rows[0][1]
-    return tuple(way)
-
-
-def trees_of(web, root):
-    """All trees, by trying all choices of ties."""
-    found = []
-    names = [row[0] for row in web[1]]
-    for chosen in itertools.combinations(names, len(web[0]) - 1):
-        if all([walk_back(web, root, chosen, place) is not None for place in web[0]]):
-            found.append(chosen)
-    return found
 
 
 def each_tree():

@@ -2,6 +2,9 @@
 
 import copy
 import itertools
+import random
+
+from rootshares.errors import TooFew
 
 
 class Prickly:
@@ -41,6 +44,11 @@ ODD = [
 ]
 NO_NAMES = ODD + [(), ("a",), ("a", "b")]
 
+NO_WEBS = ODD + [(), ("a",), ("a", "b"), [("a",), ()], ((), ()), (("a", "b"), (("t", "a", "a"),))]
+
+# Whatever is no whole number.
+NO_WHOLES = [thing for thing in NO_NAMES if not isinstance(thing, int) or isinstance(thing, bool)] + ["2", "a", (2,), [2]]
+
 # A diamond with a way back, two alike ties, a tie to the root, and a tie called like a place.
 WEB = (
     ("a", "b", "c", "d"),
@@ -53,6 +61,21 @@ WEB = (
         ("cd", "c", "d"),
         ("da", "d", "a"),
         ("db", "d", "b"),
+    ),
+)
+# A chain and a branch: a leads to b and e, b to c, c to d; with more ties that no tree of it has.
+TALL = (
+    ("a", "b", "c", "d", "e"),
+    (
+        ("ab", "a", "b"),
+        ("ac", "a", "c"),
+        ("ae", "a", "e"),
+        ("bc", "b", "c"),
+        ("ca", "c", "a"),
+        ("cd", "c", "d"),
+        ("db", "d", "b"),
+        ("ec", "e", "c"),
+        ("xab", "a", "b"),
     ),
 )
 ALONE = (("a",), ())
@@ -74,6 +97,136 @@ def some_webs():
             rows = [(a + b, a, b) for a, b in chosen]
             webs.append((places, tuple(sorted(rows))))
     return webs
+
+
+def walk_back(web, root, ties, place):
+    """The way to a place among ties of which at most one leads to each, or None; found from its far end."""
+    way = []
+    while place != root:
+        rows = [row for row in web[1] if row[0] in ties and row[2] == place]
+        if len(rows) != 1 or len(way) > len(web[0]):
+            return None
+        way.insert(0, rows[0][0])
+        place = rows[0][1]
+    return tuple(way)
+
+
+def trees_of(web, root):
+    """All trees, by trying all choices of ties."""
+    found = []
+    names = [row[0] for row in web[1]]
+    for chosen in itertools.combinations(names, len(web[0]) - 1):
+        if all([walk_back(web, root, chosen, place) is not None for place in web[0]]):
+            found.append(chosen)
+    return found
+
+
+def some_names(many):
+    """So many sorted names."""
+    return [first + second for first in "abcdefgh" for second in "abcdefgh"][:many]
+
+
+def chance_web(chance, places, ties):
+    """A web of so many places and ties, the same for the same chance; from its first place most can be come to."""
+    names = tuple("abcdefghij"[:places])
+    rows = []
+    for name in some_names(ties):
+        start, end = chance.sample(names, 2)
+        if end == names[0]:
+            start, end = end, start
+        if chance.random() < 0.1:
+            start, end = end, start
+        rows.append((name, start, end))
+    return (names, tuple(rows))
+
+
+def chance_webs(seed, many, places, ties):
+    """So many webs of at most so many places and ties."""
+    chance = random.Random(seed)
+    webs = []
+    for step in range(many):
+        size = chance.randint(2, places)
+        webs.append(chance_web(chance, size, chance.randint(0, ties)))
+    return webs
+
+
+def into(web, lot):
+    """How many ties lead into a lot, counted end by end."""
+    return sum([1 for end in lot for row in web[1] if row[2] == end and row[1] not in lot])
+
+
+def lots_without(web, root):
+    """All lots of a web that have not the root."""
+    return [lot for lot in lots_of(web) if root not in lot]
+
+
+def steps_of(web, way):
+    """The rows of a way's ties."""
+    return [row for name in way for row in web[1] if row[0] == name]
+
+
+def is_way(web, a, b, thing):
+    """Whether a thing is a way from a to b."""
+    if not isinstance(thing, tuple):
+        return False
+    rows = steps_of(web, thing)
+    stops = [a] + [row[2] for row in rows]
+    starts = [row[1] for row in rows]
+    return len(rows) == len(thing) and starts == stops[:-1] and stops[-1] == b and len(set(stops)) == len(stops)
+
+
+def all_ways(web, a, b):
+    """All ways from a to b, by going on along each tie."""
+    told = []
+    open_ends = [((), [a])]
+    while open_ends:
+        way, stops = open_ends.pop()
+        if stops[-1] == b:
+            told.append(way)
+            continue
+        for name, start, end in web[1]:
+            if start == stops[-1] and end not in stops:
+                open_ends.append((way + (name,), stops + [end]))
+    return told
+
+
+def renamed(web, places, ties):
+    """A web with other names, by two dicts."""
+    rows = [(ties[name], places[start], places[end]) for name, start, end in web[1]]
+    return (tuple(sorted(places.values())), tuple(sorted(rows)))
+
+
+def turned_names(web):
+    """Two dicts of new names for places and ties, by which all come in the other order."""
+    places = dict(zip(web[0], ["p" + letter for letter in "zyxwvutsrq"]))
+    return places, dict(zip([row[0] for row in web[1]], some_names(len(web[1]))[::-1]))
+
+
+def doubled(web):
+    """A web with each tie twice."""
+    return (web[0], tuple(sorted([(row[0] + more,) + row[1:] for row in web[1] for more in "xy"])))
+
+
+def share_fault(web, roots, trees):
+    """What is wrong with trees, one from each root, no tie in two; "" where nothing is."""
+    if not isinstance(trees, list) or len(trees) != len(roots):
+        return "no list of so many"
+    for root, tree in zip(roots, trees):
+        if not isinstance(tree, tuple) or list(tree) != sorted(set(tree)) or len(tree) != len(web[0]) - 1:
+            return "no sorted tuple of unlike names"
+        if any([walk_back(web, root, tree, place) is None for place in web[0]]):
+            return "a place is not reached"
+    ties = [tie for tree in trees for tie in tree]
+    return "" if len(ties) == len(set(ties)) else "a tie is in two"
+
+
+def told_few(deed, *given):
+    """The lot of the refusal TooFew that a call comes to, or None where it comes to none."""
+    try:
+        deed(*given)
+    except TooFew as few:
+        return few.lot
+    return None
 
 
 def refused(case, error, deed, *given):

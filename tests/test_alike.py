@@ -1,0 +1,43 @@
+"""Asked again, in another run of Python too, all is told alike, also what is open."""
+
+import os
+import subprocess
+import sys
+import unittest
+
+HERE = os.path.dirname(os.path.abspath(__file__))
+ASK = """
+from rootshares.reached import fewest, first_tree, reached
+from rootshares.shares import least, shares
+from rootshares.ways import ways
+from rootshares.webtexts import read_trees, read_web, trees_text, web_text
+from things import TALL, WEB, chance_webs, told_few
+
+for web in [WEB, TALL] + chance_webs(30, 8, 8, 40):
+    a, b = web[0][0], web[0][-1]
+    print(read_web(web_text(web)), reached(web, a), fewest(web, a, b), ways(web, a, b), least(web, a))
+    print(told_few(first_tree, web, a) or first_tree(web, a))
+    for many in range(7):
+        print(told_few(shares, web, a, many) or shares(web, a, many))
+    print(read_trees(trees_text(shares(web, a, 0))))
+"""
+
+
+def asked(seed):
+    """What a run of its own tells, with the seed by which Python orders texts in sets."""
+    paths = os.pathsep.join([os.path.dirname(HERE), HERE])
+    settings = dict(os.environ, PYTHONHASHSEED=seed, PYTHONPATH=paths, PYTHONDONTWRITEBYTECODE="1")
+    done = subprocess.run([sys.executable, "-c", ASK], env=settings, capture_output=True, text=True, check=True)
+    return done.stdout
+
+
+class Alike(unittest.TestCase):
+    def test_in_other_runs(self):
+        first = asked("0")
+        self.assertGreater(len(first), 1000)
+        for seed in ("1", "2", "77"):
+            self.assertEqual(asked(seed), first)
+
+
+if __name__ == "__main__":
+    unittest.main()
