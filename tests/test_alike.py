@@ -7,7 +7,10 @@ import unittest
 
 HERE = os.path.dirname(os.path.abspath(__file__))
 ASK = """
+from rootshares.mends import mended
+from rootshares.prices import cost_of, pays, reads_prices
 from rootshares.reached import fewest, first_tree, reached
+from rootshares.roots import lack, shares_from
 from rootshares.shares import least, shares
 from rootshares.ways import ways
 from rootshares.webtexts import read_trees, read_web, trees_text, web_text
@@ -18,7 +21,13 @@ for web in [WEB, TALL] + chance_webs(30, 8, 8, 40):
     print(read_web(web_text(web)), reached(web, a), fewest(web, a, b), ways(web, a, b), least(web, a))
     print(told_few(first_tree, web, a) or first_tree(web, a))
     for many in range(7):
-        print(told_few(shares, web, a, many) or shares(web, a, many))
+        print(told_few(shares, web, a, many) or shares(web, a, many), mended(web, a, many))
+    roots = (a, b, a)
+    print(told_few(shares_from, web, roots) or shares_from(web, roots), lack(web, roots, (b,)))
+    costs = tuple(range(len(web[1])))
+    print([(cost_of(web, costs, (row[0],)), pays(web, (((b,), 3),), row[0])) for row in web[1]])
+    if told_few(first_tree, web, a) is None:
+        print(reads_prices(web, a, costs, first_tree(web, a), ()))
     print(read_trees(trees_text(shares(web, a, 0))))
 """
 
