@@ -42,22 +42,22 @@ def is_prices(web, root, thing):
     return is_rising(lots) and all([is_apart_or_within(one, other) for one in lots for other in lots])
 
 
-def is_met(web, root, costs, tree, prices):
-    """Whether no tie pays more than it costs, but to the root, and those of the tree just what they cost."""
+def is_met(web, root, costs, ties, prices, rents):
+    """Whether no tie pays, less its rent, more than it costs, but to the root, and some ties just what they cost."""
     for row, cost in zip(web[1], costs):
-        paying = paid(prices, row)
-        if row[0] in tree and paying != cost:
+        paying = paid(prices, row) - rents.get(row[0], 0)
+        if row[0] in ties and paying != cost:
             return False
         if row[2] != root and paying > cost:
             return False
     return True
 
 
-def is_entered_once(web, tree, prices):
-    """Whether just one tie of the tree leads into each lot of two places or more that has a price."""
-    rows = rows_of(web, tree)
+def is_entered(web, ties, prices, many):
+    """Whether just so many of some ties lead into each lot of two places or more that has a price."""
+    rows = rows_of(web, ties)
     counts = [len([row for row in rows if leads_into(row, lot)]) for lot, price in prices if len(lot) > 1]
-    return all([count == 1 for count in counts])
+    return all([count == many for count in counts])
 
 
 def cost_of(web, costs, ties):
@@ -84,4 +84,4 @@ def reads_prices(web, root, costs, tree, prices):
     need_tree(web, root, tree)
     if not is_prices(web, root, prices):
         return False
-    return is_met(web, root, costs, tree, prices) and is_entered_once(web, tree, prices)
+    return is_met(web, root, costs, tree, prices, {}) and is_entered(web, tree, prices, 1)

@@ -1,9 +1,18 @@
 """The least count of ties into a lot, and so many trees of which no two have a tie in common."""
 
 from rootshares.errors import TooFew
+from rootshares.trees import spans
 from rootshares.webs import leads_into, need_number, need_place, need_web
 
 MOST_TREES = 6
+
+
+def is_shares(web, root, thing):
+    """Whether a thing is a list of trees from the root of which no two have a tie in common."""
+    if not isinstance(thing, list) or not all([spans(web, root, tree) for tree in thing]):
+        return False
+    ties = sorted([tie for tree in thing for tie in tree])
+    return all([ties[at - 1] != ties[at] for at in range(1, len(ties))])
 
 
 def lots_among(places):

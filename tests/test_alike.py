@@ -7,6 +7,10 @@ import unittest
 
 HERE = os.path.dirname(os.path.abspath(__file__))
 ASK = """
+from rootshares.cheapest import cheapest
+from rootshares.exchanges import reads_shares
+from rootshares.keeping import Keeper
+from rootshares.many import cheapest_shares
 from rootshares.mends import mended
 from rootshares.prices import cost_of, pays, reads_prices
 from rootshares.reached import fewest, first_tree, reached
@@ -28,7 +32,19 @@ for web in [WEB, TALL] + chance_webs(30, 8, 8, 40):
     print([(cost_of(web, costs, (row[0],)), pays(web, (((b,), 3),), row[0])) for row in web[1]])
     if told_few(first_tree, web, a) is None:
         print(reads_prices(web, a, costs, first_tree(web, a), ()))
+        print(cheapest(web, a, costs), cheapest(web, a, (1,) * len(costs)))
     print(read_trees(trees_text(shares(web, a, 0))))
+
+for web in [WEB, TALL] + chance_webs(31, 8, 6, 40):
+    a, b = web[0][0], web[0][-1]
+    for costs in (tuple(range(len(web[1]))), (1,) * len(web[1])):
+        for many in range(1, 7):
+            few = told_few(cheapest_shares, web, a, many, costs)
+            told = few or cheapest_shares(web, a, many, costs)
+            print(told, few or reads_shares(web, a, costs, *told))
+        keeper = Keeper(web, a, 3, costs)
+        print(keeper.trees(), keeper.put("zz", a, b, 1), keeper.put("zy", b, a, 1), keeper.take("zz"), keeper.undo())
+        print(keeper.web(), keeper.costs(), keeper.trees(), keeper.cost())
 """
 
 

@@ -4,46 +4,14 @@ import unittest
 
 from rootshares.errors import NoCosts, NoPlace, NoTie, NoTree, NoWeb
 from rootshares.prices import cost_of, pays, reads_prices
-from things import (ALONE, APART, NO_NAMES, NO_WEBS, NO_WHOLES, ODD, TALL, WEB, Prickly, chance_webs, lots_of,
-                    lots_without, refused, some_webs, trees_of)
-
-COSTS = (3, 5, -2, 0, 7, 10 ** 29, 4, 1)
-NO_COSTS = ODD + [
-    "ab", (), (1,), COSTS[:-1], COSTS + (1,), list(COSTS), set(COSTS), dict(zip("abcdefgh", COSTS)), (COSTS,), "12345678",
-    b"12345678", bytes(8), range(8), WEB, ("a",) * 8, ("1",) * 8, (None,) * 8, (True,) * 8, (False,) * 8,
-] + [COSTS[:3] + (thing,) + COSTS[4:] for thing in NO_WHOLES] + [COSTS[:7] + (True,), (False,) + COSTS[1:]]
+from things import (ALONE, APART, COSTS, NO_COSTS, NO_NAMES, NO_WEBS, NO_WHOLES, ODD, TALL, WEB, Prickly, chance_webs,
+                    holds, lots_of, lots_without, paying, refused, some_webs, trees_of)
 
 # A tree with a ring of two places that pays together: into b and c, the root is a.
 RING = (("a", "b", "c"), (("p", "a", "b"), ("q", "a", "c"), ("r", "b", "c"), ("s", "c", "b"), ("t", "c", "a")))
 RING_COSTS = (6, 9, 1, 2, -50)
 RING_TREE = ("p", "r")
 RING_PRICES = ((("b",), 2), (("b", "c"), 4), (("c",), 1))
-
-
-def paying(prices, start, end):
-    """What a tie from a place to a place pays."""
-    total = 0
-    for lot, price in prices:
-        if end in lot and start not in lot:
-            total += price
-    return total
-
-
-def holds(web, root, costs, tree, prices):
-    """Whether prices are as told, asked point by point of things that are pairs of lots and whole numbers."""
-    lots = [set(lot) for lot, price in prices]
-    points = [
-        list(prices) == sorted(prices), len(set([lot for lot, price in prices])) == len(prices),
-        all([root not in lot for lot in lots]), all([price != 0 for lot, price in prices]),
-        all([price > 0 for lot, price in prices if len(lot) >= 2]),
-        all([not one & other or one <= other or other <= one for one in lots for other in lots])]
-    for (name, start, end), cost in zip(web[1], costs):
-        points.append(end == root or paying(prices, start, end) <= cost)
-        points.append(name not in tree or paying(prices, start, end) == cost)
-    for lot, price in prices:
-        led = [row for row in web[1] if row[0] in tree and row[2] in lot and row[1] not in lot]
-        points.append(len(lot) == 1 or len(led) == 1)
-    return all(points)
 
 
 def made_up(chance, web, root, tree):
@@ -285,7 +253,7 @@ class ReadsPrices(unittest.TestCase):
                         for numbers in itertools.product((-1, 0, 1, 2, 4), repeat=many):
                             prices = tuple(zip(chosen, numbers))
                             told = reads_prices(RING, "a", costs, tree, prices)
-                            self.assertIs(told, holds(RING, "a", costs, tree, prices))
+                            self.assertIs(told, holds(RING, "a", costs, [tree], prices, ()))
                             if told:
                                 read += 1
                                 self.assertEqual((total, total), (min(totals), sum(numbers)))
@@ -312,7 +280,7 @@ class ReadsPrices(unittest.TestCase):
             for lot in lots_without(web, root)[::3]:
                 others.append(tuple(sorted(prices + ((lot, chance.choice([-1, 1, 2])),))))
             for other in others:
-                wanted = holds(web, root, costs, tree, other)
+                wanted = holds(web, root, costs, [tree], other, ())
                 self.assertIs(reads_prices(web, root, costs, tree, other), wanted)
                 faults += not wanted
         self.assertGreater(faults, 200)

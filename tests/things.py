@@ -78,6 +78,12 @@ TALL = (
         ("xab", "a", "b"),
     ),
 )
+# What the ties of the diamond cost, and what is no such thing.
+COSTS = (3, 5, -2, 0, 7, 10 ** 29, 4, 1)
+NO_COSTS = ODD + [
+    "ab", (), (1,), COSTS[:-1], COSTS + (1,), list(COSTS), set(COSTS), dict(zip("abcdefgh", COSTS)), (COSTS,), "12345678",
+    b"12345678", bytes(8), range(8), WEB, ("a",) * 8, ("1",) * 8, (None,) * 8, (True,) * 8, (False,) * 8,
+] + [COSTS[:3] + (thing,) + COSTS[4:] for thing in NO_WHOLES] + [COSTS[:7] + (True,), (False,) + COSTS[1:]]
 ALONE = (("a",), ())
 APART = (("a", "b"), ())
 
@@ -218,6 +224,71 @@ def share_fault(web, roots, trees):
             return "a place is not reached"
     ties = [tie for tree in trees for tie in tree]
     return "" if len(ties) == len(set(ties)) else "a tie is in two"
+
+
+def paying(prices, start, end):
+    """What a tie from a place to a place pays."""
+    total = 0
+    for lot, price in prices:
+        if end in lot and start not in lot:
+            total += price
+    return total
+
+
+def holds(web, root, costs, trees, prices, rents):
+    """Whether prices and rents are as told, asked point by point of pairs of lots, of ties, and whole numbers."""
+    lots = [set(lot) for lot, price in prices]
+    ties = [tie for tree in trees for tie in tree]
+    points = [
+        list(prices) == sorted(prices), len(set([lot for lot, price in prices])) == len(prices),
+        all([root not in lot for lot in lots]), all([price != 0 for lot, price in prices]),
+        all([price > 0 for lot, price in prices if len(lot) >= 2]),
+        all([not one & other or one <= other or other <= one for one in lots for other in lots]),
+        list(rents) == sorted(rents), len(set([tie for tie, rent in rents])) == len(rents),
+        all([tie in ties and rent > 0 for tie, rent in rents])]
+    for (name, start, end), cost in zip(web[1], costs):
+        less = paying(prices, start, end) - dict(rents).get(name, 0)
+        points.append(end == root or less <= cost)
+        points.append(name not in ties or less == cost)
+    for lot, price in prices:
+        led = [row for row in web[1] if row[0] in ties and row[2] in lot and row[1] not in lot]
+        points.append(len(lot) == 1 or len(led) == len(trees))
+    return all(points)
+
+
+def cost_together(web, costs, trees):
+    """What trees cost together."""
+    each = dict(zip([row[0] for row in web[1]], costs))
+    return sum([each[tie] for tree in trees for tie in tree])
+
+
+def cheapest_sets(web, costs, trees, many):
+    """What so many of some trees without a tie in common cost at least, by trying all; None where there are none."""
+    if many == 0:
+        return 0
+    best = None
+    for at, tree in enumerate(trees):
+        others = [other for other in trees[at + 1:] if not set(other) & set(tree)]
+        rest = cheapest_sets(web, costs, others, many - 1)
+        if rest is not None:
+            total = cost_together(web, costs, [tree]) + rest
+            best = total if best is None else min(best, total)
+    return best
+
+
+def some_costs(chance, many):
+    """So many costs, of one sort or another: alike, few unlike ones, below 0 too, of up to thirty figures."""
+    sort = chance.choice(["alike", "few", "below", "great", "mixed"])
+    if sort == "alike":
+        return (chance.choice([-2, 0, 1, 10 ** 30 - 1]),) * many
+    if sort == "few":
+        return tuple([chance.randint(0, 2) for step in range(many)])
+    if sort == "below":
+        return tuple([chance.randint(-20, 20) for step in range(many)])
+    if sort == "great":
+        return tuple([chance.randint(-(10 ** 30) + 1, 10 ** 30 - 1) for step in range(many)])
+    return tuple([chance.choice([0, 1, -1, 5, chance.randint(-9, 9), chance.randint(-(10 ** 29), 10 ** 29)])
+                  for step in range(many)])
 
 
 def told_few(deed, *given):
