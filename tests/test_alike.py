@@ -8,7 +8,10 @@ import unittest
 HERE = os.path.dirname(os.path.abspath(__file__))
 ASK = """
 from rootshares.cheapest import cheapest
+from rootshares.counted import all_trees, count, count_with, number_of, tree_at
 from rootshares.exchanges import reads_shares
+from rootshares.filled import just_filled, shrunk, within
+from rootshares.gluing import parted, together
 from rootshares.keeping import Keeper
 from rootshares.many import cheapest_shares
 from rootshares.mends import mended
@@ -16,6 +19,7 @@ from rootshares.prices import cost_of, pays, reads_prices
 from rootshares.reached import fewest, first_tree, reached
 from rootshares.roots import lack, shares_from
 from rootshares.shares import least, shares
+from rootshares.tables import determinant, table
 from rootshares.ways import ways
 from rootshares.webtexts import read_trees, read_web, trees_text, web_text
 from things import TALL, WEB, chance_webs, told_few
@@ -45,6 +49,14 @@ for web in [WEB, TALL] + chance_webs(31, 8, 6, 40):
         keeper = Keeper(web, a, 3, costs)
         print(keeper.trees(), keeper.put("zz", a, b, 1), keeper.put("zy", b, a, 1), keeper.take("zz"), keeper.undo())
         print(keeper.web(), keeper.costs(), keeper.trees(), keeper.cost())
+    print(table(web, a), determinant(table(web, a)), count_with(web, a, (), tuple([row[0] for row in web[1][:1]])))
+    numbers = range(0, count(web, a), 1 + count(web, a) // 5)
+    print([(tree_at(web, a, number), number_of(web, a, tree_at(web, a, number))) for number in numbers])
+    print(all_trees(web, a) if count(web, a) <= 100 else count(web, a))
+    many = min(6, least(web, a)[0])
+    for lot in just_filled(web, a, many):
+        halves = parted(web, a, lot, shares(web, a, many))
+        print(lot, shrunk(web, lot, "m"), within(web, lot, "m"), halves, together(web, a, lot, *halves, "m"))
 """
 
 
