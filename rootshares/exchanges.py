@@ -17,7 +17,7 @@ def full_lots(places, rows, many):
 
 
 def rivals_within(full, taken, row):
-    """The names of the taken ties of which one has to go where no full lot has room for a tie; None where there is."""
+    """The names of the taken ties of which one has to go for a tie, as a full lot has no room; None where all have."""
     # The least full lot with both ends of a tie lies in all others.
     lot = min([one for one in full if row[1] in one and row[2] in one], key=len, default=None)
     return None if lot is None else [one[0] for one in rows_within(taken, lot)]
@@ -52,6 +52,7 @@ def cheapest_exchanges(places, taken, others, costs, many):
         name = changed.pop(0)
         cost, length, ties = best[name]
         for more, (going, other) in steps[name]:
+            # Of those that cost as much the shortest: in a longer one an exchange may take the room of another.
             if other not in best or (cost + more, length + 2) < best[other][:2]:
                 best[other] = (cost + more, length + 2, ties + (going, other))
                 changed.append(other)

@@ -9,6 +9,8 @@ from rootshares.webs import need_number, need_place, need_web
 
 def bounds_between(places, taken, others, costs, many):
     """Triples (one, other, more): the part of the one tie's cost is at most the other's and so much more."""
+    # So parted, the taken ties are by their parts the cheapest for which full lots have room,
+    # and by what their costs are beside the parts the cheapest to each place.
     full = full_lots(places, taken, many)
     told = []
     for row in others:
@@ -40,8 +42,10 @@ def prices_by_parts(places, root, taken, costs, parts, many):
             beside = [costs[row[0]] - parts[row[0]] for row in taken if row[2] == place]
             prices[(place,)] = max(beside) + levels[0]
     for at in range(1, len(levels)):
+        # With more ties full lots only grow together: so no two of them cross, at whatever levels.
         lower = [row for row in taken if parts[row[0]] < levels[at]]
         for lot in greatest(full_lots(places, lower, many)):
+            # Into a full lot that has the root no taken tie leads.
             if root not in lot:
                 prices[lot] = prices.get(lot, 0) + levels[at] - levels[at - 1]
     return prices

@@ -1,4 +1,4 @@
-"""Some rules of ../shared/LANGUAGE.md, held against the package's files. Not all: L18, L19, L24 are for the eye."""
+"""Some rules of ../shared/LANGUAGE.md, held against the package's files. Not all: L19 and part of L18 are for the eye."""
 
 import ast
 import builtins
@@ -36,6 +36,23 @@ def nodes(kind):
         for node in ast.walk(ast.parse(text)):
             if isinstance(node, kind):
                 yield name, node
+
+
+def kept_nodes(kind):
+    """The nodes of one kind, each file read once, so that a node is the same thing when it is met again."""
+    return [node for tree in TREES for node in ast.walk(tree) if isinstance(node, kind)]
+
+
+def parents(kind):
+    """The nodes of one kind, each with the node in which it stands."""
+    for tree in TREES:
+        for parent in ast.walk(tree):
+            for node in ast.iter_child_nodes(parent):
+                if isinstance(node, kind):
+                    yield parent, node
+
+
+TREES = [ast.parse(text) for text in files().values()]
 
 
 class Language(unittest.TestCase):
@@ -115,6 +132,32 @@ class Language(unittest.TestCase):
         for name, node in nodes(ast.Call):
             if isinstance(node.func, ast.Attribute):
                 self.assertIn(node.func.attr, METHODS | own, (name, node.lineno))
+
+    def test_no_name_is_a_method_and_a_value(self):
+        methods = set()
+        for name, node in nodes(ast.ClassDef):
+            methods.update([one.name for one in node.body if isinstance(one, ast.FunctionDef)])
+        given = [node.attr for name, node in nodes(ast.Attribute) if isinstance(node.ctx, ast.Store)]
+        self.assertEqual([one for one in given if one in methods or one in METHODS], [])
+        called = [id(node.func) for node in kept_nodes(ast.Call)]
+        for node in kept_nodes(ast.Attribute):
+            if id(node) not in called:
+                self.assertIn(node.attr, given, node.lineno)
+
+    def test_what_is_walked_is_not_kept(self):
+        for parent, node in parents(ast.Call):
+            if isinstance(node.func, ast.Name) and node.func.id in ("zip", "enumerate", "reversed", "range"):
+                self.assertIsInstance(parent, (ast.For, ast.comprehension, ast.Call), node.lineno)
+            if isinstance(node.func, ast.Attribute) and node.func.attr in ("items", "keys", "values"):
+                self.assertIsInstance(parent, (ast.For, ast.comprehension, ast.Call), node.lineno)
+
+    def test_sets_are_sorted_or_measured_on_the_spot(self):
+        found = [(parent, node) for parent, node in parents((ast.Set, ast.SetComp))]
+        found += [(parent, node) for parent, node in parents(ast.Call)
+                  if isinstance(node.func, ast.Name) and node.func.id in ("set", "frozenset")]
+        for parent, node in found:
+            self.assertIsInstance(parent, ast.Call, node.lineno)
+            self.assertIn(parent.func.id, ("sorted", "len"), node.lineno)
 
     def test_is_stands_beside_none_true_false(self):
         for name, node in nodes(ast.Compare):
